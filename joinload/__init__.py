@@ -1,0 +1,1 @@
+"""Joinload: pieces of code joined, loaded at any place, and run."""
