@@ -30,6 +30,13 @@ credits delattr dir eval exec exit gc getattr globals hasattr help id importlib 
 setattr super type vars sys
 """.split()
 
+METHODS = """
+append clear copy count endswith extend find get index insert isalnum isalpha isdigit islower isspace isupper items join
+keys ljust lower lstrip partition pop remove replace reverse rfind rjust rpartition rsplit rstrip setdefault split
+splitlines startswith strip update upper values zfill bit_length
+""".split()
+WALKED = "zip enumerate reversed range".split()
+
 
 def faults_of_text(text):
     rows = text.split("\n")
@@ -79,7 +86,26 @@ def faults_of_def(node):
         yield "L15"
 
 
+def faults_of_values(node):
+    """What stands where a value does."""
+    if isinstance(node, ast.FormattedValue):
+        if not isinstance(node.value, ast.Name) or node.conversion not in (-1, ord("r")) or node.format_spec:
+            yield "L7"
+    if isinstance(node, ast.Compare) and isinstance(node.ops[0], (ast.Is, ast.IsNot)):
+        if not any(isinstance(side, ast.Constant) for side in (node.left, node.comparators[0])):
+            yield "L20"
+    if isinstance(node, ast.Assign) and isinstance(node.value, ast.Call) and isinstance(node.value.func, ast.Name):
+        if node.value.func.id in WALKED:
+            yield "L23"
+        if node.value.func.id in ("set", "frozenset"):
+            yield "L24"
+    if isinstance(node, (ast.For, ast.comprehension)) and isinstance(node.iter, (ast.Set, ast.Call)):
+        if isinstance(node.iter, ast.Set) or getattr(node.iter.func, "id", "") in ("set", "frozenset"):
+            yield "L24"
+
+
 def faults_of_node(node):
+    yield from faults_of_values(node)
     if type(node).__name__ not in NODES:
         yield "L6, L7"
     if isinstance(node, ast.ImportFrom) and (node.level or not node.module.startswith("joinload.")):
@@ -113,6 +139,67 @@ def faults_of(text):
     return faults
 
 
+def bound_at_top(tree):
+    """The names of a file's top: those that it draws from others, and those of its own."""
+    drawn = [name.name for row in tree.body if isinstance(row, ast.ImportFrom) for name in row.names]
+    own = [row.name for row in tree.body if isinstance(row, (ast.FunctionDef, ast.ClassDef))]
+    own += [target.id for row in tree.body if isinstance(row, ast.Assign) for target in row.targets]
+    return drawn, own
+
+
+def faults_of_bound(tree):
+    """Names that are bound twice at the top, or within a def like a class or an import of the file."""
+    drawn, own = bound_at_top(tree)
+    if len(set(drawn + own)) != len(drawn + own):
+        yield "L15"
+    taken = drawn + [row.name for row in tree.body if isinstance(row, ast.ClassDef)]
+    for node in ast.walk(tree):
+        stored = isinstance(node, ast.Name) and isinstance(node.ctx, ast.Store) and node.id in taken
+        if stored or isinstance(node, ast.arg) and node.arg in taken:
+            yield "L15", node.lineno
+
+
+def methods_and_values(trees):
+    """The names of the methods in all classes, and of the values that objects are given."""
+    nodes = [node for tree in trees.values() for node in ast.walk(tree)]
+    classes = [node for node in nodes if isinstance(node, ast.ClassDef)]
+    methods = {row.name for node in classes for row in node.body if isinstance(row, ast.FunctionDef)}
+    values = {node.attr for node in nodes if isinstance(node, ast.Attribute) and isinstance(node.ctx, ast.Store)}
+    return methods, values
+
+
+def faults_of_imports(trees):
+    """Names drawn from a file that does not define them, and files that draw from one another."""
+    draws = {}
+    for name, tree in trees.items():
+        rows = [row for row in tree.body if isinstance(row, ast.ImportFrom)]
+        draws[name] = {row.module.partition(".")[2] for row in rows}
+        for row in rows:
+            own = bound_at_top(trees[row.module.partition(".")[2]])[1]
+            if any(each.name not in own or each.asname for each in row.names):
+                yield "L16", name, row.lineno
+    while any(draws.values()):
+        free = [name for name in draws if not draws[name]]
+        if not free:
+            yield "L16", sorted(draws)
+            return
+        draws = {name: others - set(free) for name, others in draws.items() if name not in free}
+
+
+def faults_of_package(texts):
+    """What can be told of all files together alone; texts by the names of the files."""
+    trees = {name: ast.parse(text) for name, text in texts.items()}
+    methods, values = methods_and_values(trees)
+    faults = [("L18", name) for name in sorted(methods & values)] + list(faults_of_imports(trees))
+    for name, tree in trees.items():
+        faults.extend(faults_of_bound(tree))
+        for node in ast.walk(tree):
+            if isinstance(node, ast.Call) and isinstance(node.func, ast.Attribute):
+                if node.func.attr not in METHODS and node.func.attr not in methods | set(DOUBLED):
+                    faults.append(("L25", name, node.lineno))
+    return faults
+
+
 class FormTest(unittest.TestCase):
     def test_only_plain_files_lie_in_the_package(self):
         for path in PACKAGE.iterdir():
@@ -132,10 +219,31 @@ class FormTest(unittest.TestCase):
             "def f(hash):\n    return hash\n", "# the type of it\n", "# caf\u00e9\n", "# a\tb\n",
             "def f(x):\n    return (y for y in x)\n", "def f(x):\n    _y = x\n", "x = 1\n" * 401, "#" + "x" * 120,
             "def f():\n" + "    pass\n" * 40, "def f():\n    return getattr\n", "if True:\n    x = 1\n",
+            "def f(x):\n    return f'{x + 1}'\n", "def f(x):\n    return f'{x:4}'\n", "def f(x):\n    return x is x\n",
+            "def f(x):\n    y = zip(x, x)\n", "def f(x):\n    y = set(x)\n",
+            "def f(x):\n    for y in set(x):\n        pass\n",
         ]
         for text in outside:
             with self.subTest(text=text[:40]):
                 self.assertNotEqual(faults_of(text), [])
+
+    def test_all_files_together_keep_to_the_language(self):
+        texts = {path.stem: path.read_text(encoding="utf-8") for path in PACKAGE.glob("*.py")}
+        self.assertEqual(faults_of_package(texts), [])
+
+    def test_what_is_outside_the_language_in_several_files_is_found(self):
+        outside = [
+            {"a": "from joinload.b import f\n", "b": "from joinload.a import f\n"},
+            {"a": "from joinload.b import f\n", "b": "from joinload.c import f\n", "c": "def f():\n    pass\n"},
+            {"a": "class A:\n    def go(self):\n        pass\n", "b": "def f(x):\n    x.go = 1\n"},
+            {"a": "def f(x):\n    x.sort()\n"},
+            {"a": "x = 1\nx = 2\n"},
+            {"a": "class A:\n    pass\ndef f(A):\n    return A\n"},
+            {"a": "from joinload.b import g\ndef f():\n    g = 1\n", "b": "def g():\n    pass\n"},
+        ]
+        for texts in outside:
+            with self.subTest(texts=texts):
+                self.assertNotEqual(faults_of_package(texts), [])
 
 
 if __name__ == "__main__":
