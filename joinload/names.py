@@ -46,15 +46,27 @@ def refuse_twice(ordered):
 
 def aim(piece, names, fill):
     """The place that a fill of the piece aims at, or the number where a soft one has no place."""
+    return aims(piece, names, [fill])[0]
+
+
+def aims(piece, names, fills):
+    """What these fills of the piece aim at, in their order."""
+    # Once for all of them, since a piece may have many own names and a stretch many fills.
+    own = places_told(piece, "own")
+    return [aim_by(piece[0], own, names, fill) for fill in fills]
+
+
+def aim_by(piece_name, own, names, fill):
+    """What a fill of the piece of this name aims at, own being the places of the piece's own names."""
     name = fill[2]
     add = fill[3]
     soft = fill[4]
-    place = places_told(piece, "own").get(name, names.get(name))
+    place = own.get(name, names.get(name))
     if place is not None:
         return (place[0], place[1], place[2] + add)
     if soft:
         return wrapped(add)
-    raise Unmet(name, piece[0])
+    raise Unmet(name, piece_name)
 
 
 def places_told(piece, told_by):

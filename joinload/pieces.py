@@ -170,6 +170,11 @@ def fill_rows(fills):
     return rows
 
 
+def pieces_by_name(pieces):
+    """The pieces, by their names."""
+    return dict([(piece[0], piece) for piece in pieces])
+
+
 def copied_piece(piece):
     """The same piece, with lists of its own."""
     stretches = [(kind, step, list(words), copied_fills(fills)) for kind, step, words, fills in piece[1]]
