@@ -1,6 +1,16 @@
-"""The parts of a word that is done as a deed."""
+"""The parts of a word that is done as a deed, and what comes of two words."""
 
-from joinload.bits import field, signed
+from joinload.bits import field, signed, turned, wrapped
+
+DEEDS = (
+    "end", "tell", "put", "high", "add", "load", "store", "sum",
+    "less", "both", "odd", "turn", "same", "under", "call", "go",
+)
+
+
+def deed_of(word):
+    """Which deed it is, by its title."""
+    return DEEDS[op_of(word)]
 
 
 def op_of(word):
@@ -41,3 +51,16 @@ def near_of(word):
 def split_of(word):
     """The way of a same or an under, from -2048 to 2047: its lowest seven bits and its other five lie apart."""
     return signed(field(word, 0, 7) + 128 * field(word, 14, 5), 12)
+
+
+def of_two_words(deed, first, second):
+    """The word that comes of two words by sum, less, both, odd or turn."""
+    if deed == "sum":
+        return wrapped(first + second)
+    if deed == "less":
+        return wrapped(first - second)
+    if deed == "both":
+        return first & second
+    if deed == "odd":
+        return first ^ second
+    return turned(first, second)

@@ -1,6 +1,6 @@
 import unittest
 
-from joinload.deeds import a_of, b_of, c_of, n_of, near_of, op_of, s_of, split_of
+from joinload.deeds import a_of, b_of, c_of, deed_of, n_of, near_of, of_two_words, op_of, s_of, split_of
 
 ALL_ONES = 4294967295
 
@@ -25,6 +25,12 @@ class DeedsTest(unittest.TestCase):
         for op in range(16):
             self.assert_told(op_of, deed(op=op), op)
             self.assert_told(op_of, deed(op=op, a=7, b=7, c=7, rest=2 ** 19 - 1), op)
+
+    def test_titles(self):
+        titles = "end tell put high add load store sum less both odd turn same under call go".split()
+        for op, title in enumerate(titles):
+            self.assertEqual(deed_of(deed(op=op)), title)
+            self.assertEqual(deed_of(deed(op=op, a=7, b=7, c=7, rest=2 ** 19 - 1)), title)
 
     def test_a(self):
         for a in range(8):
@@ -77,6 +83,16 @@ class DeedsTest(unittest.TestCase):
         word = deed(op=9, a=5, b=3, c=6, rest=0x4A5C3)
         self.assertEqual([part(word) for part in parts], [9, 5, 3, 6, 0xA5C3, 0xA5C3 - 2 ** 16, 0x4A5C3 - 2 ** 19,
                                                           0x12 * 128 + 0x43 - 4096])
+
+    def test_of_two_words(self):
+        for title, first, second, word in [
+                ("sum", 7, 5, 12), ("sum", ALL_ONES, 1, 0), ("sum", ALL_ONES, ALL_ONES, ALL_ONES - 1),
+                ("less", 7, 5, 2), ("less", 5, 7, ALL_ONES - 1), ("less", 0, ALL_ONES, 1), ("both", 12, 10, 8),
+                ("both", ALL_ONES, 77, 77), ("odd", 12, 10, 6), ("odd", ALL_ONES, ALL_ONES, 0), ("turn", 3, 0, 3),
+                ("turn", 3, 1, 2 ** 31 + 1), ("turn", 3, 31, 6), ("turn", 3, 32, 3), ("turn", 3, ALL_ONES, 6)]:
+            told = of_two_words(title, first, second)
+            self.assertIs(type(told), int)
+            self.assertEqual(told, word, (title, first, second))
 
 
 if __name__ == "__main__":
