@@ -3,7 +3,7 @@ import copy
 import itertools
 import unittest
 
-from joinload.errors import NoSense, TooFar
+from joinload.errors import JoinError, NoSense, SameName, TooFar, Twice, Unmet
 from joinload.joining import joined, map_of
 from joinload.loading import loaded, start_of
 from joinload.machine import Machine
@@ -567,6 +567,59 @@ class DrawnTest(PromiseTest):
             registers += [high("p", draw.below(4), draw.below(4))] + [0] * 4
             done += self.assert_promise(given, [], "n0", registers, 30)[1]
         self.assertGreater(done, 200)
+
+
+class OrdersTest(PromiseTest):
+    """Point 4: orders change nothing of a run nor of a refusal, where no name is told by two pieces of the shelves."""
+
+    def answers(self, given, shelves, entry):
+        """All that both machines tell on their way, and what they were made of; or the refusal."""
+        told = []
+        for make in (self.loaded_one, Named):
+            try:
+                machine = make(given, shelves, entry, [0] * 8)
+            except JoinError as refusal:
+                told.append((type(refusal), vars(refusal)))
+                continue
+            told.append([machine.state()])
+            while machine.go_on():
+                told[-1].append(machine.state())
+        return told
+
+    def loaded_one(self, given, shelves, entry, registers):
+        whole = joined(given, shelves, entry)
+        return Machine(loaded(whole, 4096), start_of(whole, 4096), registers)
+
+    def assert_all_orders(self, pieces, entry):
+        expected = self.answers(pieces[:2], [pieces[2:]], entry)
+        for given in (pieces[:2], pieces[1::-1]):
+            for order in itertools.permutations(pieces[2:]):
+                for cut in range(len(order)):
+                    shelves = [list(order[:cut]), list(order[cut:])]
+                    self.assertEqual(self.answers(list(given), shelves, entry), expected)
+        return expected
+
+    def pieces(self, number):
+        given, shelves, entry = typed(number)
+        return sorted(given + shelves[0] + shelves[2])
+
+    def test_runs(self):
+        for number in (3, 7):
+            told = self.assert_all_orders(self.pieces(number), "main")
+            self.assertIs(told[0][-1][3], True)
+            self.assertEqual(len(told[0]), len(told[1]))
+
+    def test_refusals(self):
+        pieces = self.pieces(3)
+        twice = ("t", [stretch("code", [0])], [("main", "tell", 0, 0)])
+        for others, entry, refusal in [
+                (pieces[:6], "main", (Unmet, {"name": "d2", "piece": "m"})),
+                (pieces, "nobody", (Unmet, {"name": "nobody", "piece": ""})),
+                (pieces[:6] + [("xd0", [], [])], "main", (SameName, {"name": "xd0"})),
+                ([twice] + pieces[1:], "main", (Unmet, {"name": "any", "piece": "m"})),
+                ([twice, pieces[1], pieces[0]] + pieces[2:], "d0",
+                 (Twice, {"name": "main", "one": "m", "other": "t"}))]:
+            self.assertEqual(self.assert_all_orders(others, entry), [refusal, refusal])
 
 
 class BoundsTest(PromiseTest):
