@@ -105,6 +105,7 @@ class PromiseTest(unittest.TestCase):
         self.assert_written(given, shelves, entry, whole)
         pieces = {piece[0]: piece for piece in given + [piece for shelf in shelves for piece in shelf]}
         sizes = {key: len(pieces[key[0]][1][key[1]][2]) for key in places}
+        whole = read_whole(shown_whole(whole))
         for base in bases or self.bases_of(whole):
             memory = loaded(whole, base)
             self.assert_read_back(pieces, places, memory, base, Named(given, shelves, entry, [0] * 8))
